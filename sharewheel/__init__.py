@@ -1,0 +1,1 @@
+"""Sharewheel: one road for many senders."""
