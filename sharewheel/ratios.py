@@ -56,6 +56,13 @@ def greater(one, other):
     return (most[0], most[1])
 
 
+def least(some):
+    result = some[0]
+    for one in some:
+        result = lesser(result, one)
+    return result
+
+
 def total(some):
     result = ratio(0, 1)
     for one in some:
