@@ -45,6 +45,8 @@ NODES = tuple(
         "operator unaryop cmpop"
     ).split()
 )
+READING = {"get", "index", "count", "items", "keys", "values", "copy"}
+COPYING = {"len", "list", "tuple", "dict", "sorted", "sum", "min", "max", "any", "all", "enumerate", "zip", "reversed"}
 WALKED = {"zip", "enumerate", "reversed", "range"}
 KEYWORDS = {
     "sorted": {"key", "reverse"}, "min": {"key", "default"}, "max": {"key", "default"},
@@ -217,11 +219,35 @@ def statement_faults(node):
             yield "L2 an import that is not of the package's own, by its full name"
 
 
+def kept_faults(tree):
+    """What a list or dict of the file's top is not used for, and methods that are not called where they stand."""
+    kept = set()
+    for row in tree.body:
+        if isinstance(row, ast.Assign) and isinstance(row.value, (ast.List, ast.Dict)):
+            kept.add(row.targets[0].id)
+            if any(isinstance(part, (ast.List, ast.Dict)) for part in ast.walk(row.value) if part is not row.value):
+                yield f"L15 line {row.lineno}: a list or dict within a list or dict"
+    called = [node.func for node in ast.walk(tree) if isinstance(node, ast.Call)]
+    read = [node.value for node in ast.walk(tree) if isinstance(node, ast.Subscript) and isinstance(node.ctx, ast.Load)]
+    read += [part for node in ast.walk(tree) if isinstance(node, ast.Compare) for part in node.comparators]
+    read += [node.iter for node in ast.walk(tree) if isinstance(node, (ast.For, ast.comprehension))]
+    read += [node.value for node in called if isinstance(node, ast.Attribute) and node.attr in READING]
+    for node in ast.walk(tree):
+        if isinstance(node, ast.Call) and isinstance(node.func, ast.Name) and node.func.id in COPYING:
+            read += node.args
+    for node in ast.walk(tree):
+        if isinstance(node, ast.Name) and isinstance(node.ctx, ast.Load) and node.id in kept and node not in read:
+            yield f"L15 line {node.lineno}: {node.id} is not only read"
+        if isinstance(node, ast.Attribute) and node.attr in METHODS and node not in called:
+            yield f"L25 line {node.lineno}: {node.attr} is not called"
+
+
 def faults(source):
     found = list(text_faults(source))
     tree = ast.parse(source)
     found.extend(top_faults(tree))
     found.extend(shadow_faults(tree))
+    found.extend(kept_faults(tree))
     for node in ast.walk(tree):
         if not isinstance(node, NODES):
             inner = [f"L6, L7 {type(node).__name__}"]
@@ -283,13 +309,23 @@ class Files(unittest.TestCase):
     def test_no_name_is_a_method_and_a_value(self):
         methods = set()
         values = set()
+        called = set()
+        attributes = []
         for path in package_files():
             for node in ast.walk(ast.parse(path.read_text(encoding="utf-8"))):
                 if isinstance(node, ast.ClassDef):
                     methods.update(part.name for part in node.body if isinstance(part, ast.FunctionDef))
                 if isinstance(node, ast.Attribute) and isinstance(node.ctx, ast.Store):
                     values.add(node.attr)
+                if isinstance(node, ast.Call):
+                    called.add(node.func)
+                if isinstance(node, ast.Attribute):
+                    attributes.append((path.name, node))
         self.assertEqual(methods & values, set())
+        # A method is called where it stands (L25).
+        for name, node in attributes:
+            if node.attr in methods:
+                self.assertIn(node, called, f"{name} line {node.lineno}")
 
 
 class TheReader(unittest.TestCase):
@@ -298,6 +334,8 @@ class TheReader(unittest.TestCase):
             '"""Words."""\n\nfrom sharewheel.errors import NoRatio\n\nMOST = (1, -2)\n',
             "def double(one, other=None):\n    return [part * 2 for part in one if part is not None]\n",
             "class Own(ValueError):\n    def __init__(self, place):\n        self.place = place\n",
+            "def one():\n    return 1\n\nSOME = {1: one}\n\ndef two(key):\n    return SOME[key]() + SOME.get(key, one)()\n",
+            "SOME = [1]\n\n\ndef one():\n    return list(SOME) + [part for part in SOME] + [len(SOME)]\n",
         ):
             with self.subTest(source):
                 self.assertEqual(faults(source), [])
@@ -316,6 +354,9 @@ class TheReader(unittest.TestCase):
             "def one(some):\n    pairs = enumerate(some)\n", "def _one():\n    _two = 1\n",
             "def one(some):\n    return some is 1\n",
             "from sharewheel.pieces import longest\n\ndef one(longest):\n    return longest\n",
+            "SOME = []\n\ndef one():\n    return SOME\n", "SOME = []\n\ndef one(part):\n    SOME.append(part)\n",
+            "SOME = {}\n\ndef one(part):\n    SOME[part] = 1\n", "SOME = [[1]]\n", "SOME = {1: {}}\n",
+            "def one(some):\n    return some.append\n",
             "class Own:\n    most = 1\n", "class Own(ValueError, KeyError):\n    pass\n",
             "# \u00e4\n", "# an Enum\n", "def one():\n" + "    pass\n" * 40, "#" * 121 + "\n", "#\n" * 401,
         ):
